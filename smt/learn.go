@@ -6,47 +6,28 @@ import (
 	"trammel/api"
 )
 
-// How many lemmas are made of one choice, and up to how many literals each literal of one is tried to be left out.
-const (
-	maxLemmas = 6
-	maxTried  = 40
-)
+// maxFacts is how many facts are made of one choice.
+const maxFacts = 8
 
-// learn makes lemmas of literals that can't all be so, as the steps show.
+// learn makes facts of literals that can't all be so, as the steps show.
 func (s *search) learn(lits []int, steps []api.Step) {
-	for range maxLemmas {
-		core := s.shrink(used(lits, steps))
-		found, _ := s.numbers(core)
+	for range maxFacts {
+		core := s.shrink(lits, steps)
+		clause := s.add(fact{lits: core})
+		if len(clause) == 0 {
+			return
+		}
+		lits = slices.DeleteFunc(slices.Clone(lits), func(l int) bool { return l == -clause[0] })
+		found, known := s.numbers(lits)
 		if found.Kind != api.Unsat {
-			s.block(lits)
 			return
 		}
-		s.add(core, found.Steps)
-		free := slices.IndexFunc(core, func(l int) bool { return !slices.Contains(s.forced, l) })
-		if free < 0 {
-			return
-		}
-		lits = slices.DeleteFunc(slices.Clone(lits), func(l int) bool { return l == core[free] })
-		again, known := s.numbers(lits)
-		if again.Kind != api.Unsat {
-			return
-		}
-		lits, steps = known, again.Steps
+		lits, steps = known, found.Steps
 	}
 }
 
-// add adds the lemma that not all of some literals are so.
-func (s *search) add(core []int, steps []api.Step) {
-	lemma, clause := []int{}, []int{}
-	for _, l := range core {
-		lemma, clause = append(lemma, -l), append(clause, -l)
-	}
-	s.lemmas = append(s.lemmas, api.Lemma{Lits: lemma, Steps: steps})
-	s.clauses = append(s.clauses, clause)
-}
-
-// used are the literals whose premises the steps use.
-func used(lits []int, steps []api.Step) []int {
+// used are the literals whose premises the steps use, if they alone can be shown not to be so; else all.
+func (s *search) used(lits []int, steps []api.Step) ([]int, []api.Step) {
 	uses := make([]bool, len(lits))
 	for _, s := range steps {
 		for _, p := range s.Parts {
@@ -61,21 +42,72 @@ func used(lits []int, steps []api.Step) []int {
 			core = append(core, l)
 		}
 	}
-	return core
+	if found, _ := s.numbers(core); found.Kind == api.Unsat {
+		return core, found.Steps
+	}
+	return lits, steps
 }
 
-// shrink leaves out literals without which the others can't be so either.
-func (s *search) shrink(core []int) []int {
-	for i := 0; i < len(core) && len(core) <= maxTried; {
+// shrink leaves out literals without which the others can't be so either. It is of no use to try it with what is forced.
+func (s *search) shrink(lits []int, steps []api.Step) []int {
+	core, _ := s.used(lits, steps)
+	for i := 0; i < len(core); {
+		if s.must[place(core[i])] {
+			i++
+			continue
+		}
 		fewer := slices.Delete(slices.Clone(core), i, i+1)
 		found, known := s.numbers(fewer)
 		if found.Kind != api.Unsat {
 			i++
 			continue
 		}
-		next := used(known, found.Steps)
-		// Those ahead of i are needed, so they are still there.
-		core = next
+		// Those ahead of i are needed, so they are still there, if they aren't forced.
+		core, _ = s.used(known, found.Steps)
+		i = slices.IndexFunc(core, func(l int) bool { return !s.must[place(l)] && !slices.Contains(fewer[:i], l) })
+		if i < 0 {
+			break
+		}
 	}
 	return core
+}
+
+// refuted is a certificate, by the steps that layer 8 found, of the facts that these need.
+func (s *search) refuted(steps [][]int) api.Answer {
+	need := needed(s.n, s.clauses, steps)
+	var c api.Cert
+	for i, f := range s.facts {
+		if !need[s.own+i] {
+			continue
+		}
+		l, ok := s.lemma(f)
+		if !ok {
+			return api.Answer{}
+		}
+		c.Lemmas = append(c.Lemmas, l)
+	}
+	for i, step := range steps {
+		if need[len(s.clauses)+i] && len(step) > 0 {
+			c.Refute = append(c.Refute, step)
+		}
+	}
+	c.Refute = append(c.Refute, []int{})
+	return api.Answer{Kind: api.Unsat, Cert: c}
+}
+
+// lemma is a fact's, with its steps.
+func (s *search) lemma(f fact) (api.Lemma, bool) {
+	if f.blind {
+		return api.Lemma{}, false
+	}
+	found, lits := s.numbers(f.lits)
+	if found.Kind != api.Unsat {
+		return api.Lemma{}, false
+	}
+	lits, steps := s.used(lits, found.Steps)
+	l := api.Lemma{Steps: steps}
+	for _, k := range lits {
+		l.Lits = append(l.Lits, -k)
+	}
+	return l, true
 }

@@ -16,14 +16,23 @@ const (
 	numberFuel = 30000
 )
 
+// fact is that not all of some literals can be so. Its lemma is made once it is known that a proof needs it. A blind one
+// is no fact: nothing was found about its literals, and a proof that needs it is none.
+type fact struct {
+	lits  []int
+	blind bool
+}
+
 type search struct {
 	f       api.Form
 	n       int // how many variables the clauses have
 	atoms   []api.Lin
 	told    [][]api.Lin // by place of a literal, the premise that it is, if there is one
+	own     int         // so many of the clauses are the formula's; of the others each is a fact
 	clauses [][]int
-	lemmas  []api.Lemma
+	facts   []fact
 	forced  []int  // literals that must be true
+	must    []bool // by place of a literal, whether it is one of these
 	rest    []part // what else must be true
 	base    []int  // values by which what is forced is so, if such were found
 	width   int    // how many values there are
@@ -40,18 +49,22 @@ func place(l int) int {
 
 // begin takes a formula in.
 func begin(f, normalized api.Form, m api.Cnf) *search {
-	s := &search{f: f, n: m.N, atoms: m.Atoms, clauses: m.Clauses, told: make([][]api.Lin, 2*len(m.Atoms)+2)}
+	places := 2*len(m.Atoms) + 2
+	s := &search{f: f, n: m.N, atoms: m.Atoms, clauses: m.Clauses, own: len(m.Clauses), told: make([][]api.Lin, places), must: make([]bool, places)}
 	for i, a := range m.Atoms {
-		for _, l := range []int{i + 1, -i - 1} {
+		for _, sign := range []int{1, -1} {
 			// A lemma's literal says its opposite.
-			if p, err := cert.Premises([]api.Lin{a}, []int{-l / (i + 1)}); err == nil {
-				s.told[place(l)] = p
+			if p, err := cert.Premises([]api.Lin{a}, []int{-sign}); err == nil {
+				s.told[place(sign*(i+1))] = p
 			}
 		}
 	}
 	s.forced, s.rest = parts(normalized, number(m.Atoms)).top(nil, nil)
 	slices.Sort(s.forced)
 	s.forced = slices.Compact(s.forced)
+	for _, l := range s.forced {
+		s.must[place(l)] = true
+	}
 	if vars := formula.Vars(f); len(vars) > 0 {
 		s.width = vars[len(vars)-1] + 1
 	}
@@ -89,6 +102,10 @@ func (s *search) search(fuel int) api.Answer {
 		s.learn(known, found.Steps)
 	} else if s.all(s.base) {
 		return api.Answer{Kind: api.Sat, Values: s.base}
+	} else {
+		for _, l := range s.fixed() {
+			s.add(fact{lits: append([]int{-l}, s.forced...)})
+		}
 	}
 	for ; fuel > 0 && !s.stuck; fuel-- {
 		c, err := sat.Solve(s.n, s.clauses, choiceFuel)
@@ -96,13 +113,26 @@ func (s *search) search(fuel int) api.Answer {
 			return api.Answer{}
 		}
 		if c.Kind == api.Unsat {
-			return api.Answer{Kind: api.Unsat, Cert: api.Cert{Lemmas: s.lemmas, Refute: c.Steps}}
+			return s.refuted(c.Steps)
 		}
 		if values, ok := s.try(c.Values[:len(s.atoms)]); ok {
 			return api.Answer{Kind: api.Sat, Values: values}
 		}
 	}
 	return api.Answer{}
+}
+
+// add adds a fact, and the clause that it is: what is forced is left out of it. It answers that.
+func (s *search) add(f fact) []int {
+	var clause []int
+	for _, l := range f.lits {
+		if !s.must[place(l)] {
+			clause = append(clause, -l)
+		}
+	}
+	s.facts = append(s.facts, f)
+	s.clauses = append(s.clauses, clause)
+	return clause
 }
 
 // try looks for values, the atoms being chosen. Of what is chosen it takes in only what the values that it has so far
@@ -114,26 +144,15 @@ func (s *search) try(atoms []bool) ([]int, bool) {
 		there[l] = 1
 	}
 	for {
-		more := false
-		is := s.truth(values)
-		for _, p := range s.rest {
-			if p.is(is) {
-				continue
-			}
-			for _, l := range p.needs(atoms, there) {
-				if there[l] == 0 {
-					there[l], more = 1, true
-					lits = append(lits, l)
-				}
-			}
-		}
-		if !more {
+		more := s.missing(atoms, values, there)
+		if len(more) == 0 {
 			if s.all(values) {
 				return values, true
 			}
 			s.block(lits)
 			return nil, false
 		}
+		lits = append(lits, more...)
 		found, known := s.numbers(lits)
 		switch found.Kind {
 		case api.Unsat:
@@ -145,6 +164,24 @@ func (s *search) try(atoms []bool) ([]int, bool) {
 		}
 		values = s.widen(found.Values)
 	}
+}
+
+// missing are literals, chosen to be true, that make true what isn't so by the values. They are there from then on.
+func (s *search) missing(atoms []bool, values []int, there map[int]int) []int {
+	var more []int
+	is := s.truth(values)
+	for _, p := range s.rest {
+		if p.is(is) {
+			continue
+		}
+		for _, l := range p.needs(atoms, there) {
+			if there[l] == 0 {
+				there[l] = 1
+				more = append(more, l)
+			}
+		}
+	}
+	return more
 }
 
 // all tells whether the formula is true by values.
@@ -175,14 +212,7 @@ func (s *search) widen(values []int) []int {
 	return wide
 }
 
-// block bars a choice of literals about which nothing was found. No lemma says so: a proof that needs it isn't taken.
+// block bars a choice of literals about which nothing was found.
 func (s *search) block(lits []int) {
-	var clause []int
-	for _, l := range lits {
-		if !slices.Contains(s.forced, l) {
-			clause = append(clause, -l)
-		}
-	}
-	s.stuck = len(clause) == 0
-	s.clauses = append(s.clauses, clause)
+	s.stuck = len(s.add(fact{lits: lits, blind: true})) == 0
 }
