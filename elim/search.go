@@ -10,6 +10,9 @@ import (
 // maxSum is how great a step's sum may be ahead of its division.
 const maxSum = api.MaxCoef * api.MaxTimes
 
+// lossy is how many rows more are as bad as whole numbers that may get lost.
+const lossy = 64
+
 // row is a line whose variables aren't eliminated yet.
 type row struct {
 	l    api.Lin
@@ -26,8 +29,8 @@ type stage struct {
 	lines []api.Lin
 }
 
-// tally is how often a variable stands in rows, with coefficients above and below 0.
-type tally struct{ above, below int }
+// tally is how often a variable stands in rows, with coefficients above and below 0, and the greatest of each.
+type tally struct{ above, below, most, least int }
 
 type search struct {
 	premises int
@@ -102,8 +105,10 @@ func (s *search) counts() map[int]tally {
 			c := counts[m.V]
 			if m.K > 0 {
 				c.above++
+				c.most = max(c.most, m.K)
 			} else {
 				c.below++
+				c.least = max(c.least, -m.K)
 			}
 			counts[m.V] = c
 		}
@@ -136,11 +141,15 @@ func (s *search) loosen(counts map[int]tally) bool {
 	return len(loose) > 0
 }
 
-// cheapest is the variable whose elimination adds fewest rows; of several the first one.
+// cheapest is the variable whose elimination adds fewest rows; of several the first one. Where the coefficients of
+// neither side are all 1, whole numbers may get lost: that is as bad as many rows.
 func cheapest(counts map[int]tally) int {
 	best, least := -1, 0
 	for v, c := range counts {
 		cost := c.above*c.below - c.above - c.below
+		if c.most > 1 && c.least > 1 {
+			cost += lossy
+		}
 		if best < 0 || cost < least || cost == least && v < best {
 			best, least = v, cost
 		}

@@ -1,23 +1,28 @@
 package smt
 
 import (
+	"cmp"
 	"slices"
 
 	"trammel/api"
 )
 
-// maxFacts is how many facts are made of one choice.
-const maxFacts = 8
+// How many facts are made of one choice, and how many weaker literals are tried in the place of one.
+const (
+	maxFacts  = 8
+	maxWeaker = 4
+)
 
 // learn makes facts of literals that can't all be so, as the steps show.
 func (s *search) learn(lits []int, steps []api.Step) {
 	for range maxFacts {
 		core := s.shrink(lits, steps)
-		clause := s.add(fact{lits: core})
-		if len(clause) == 0 {
+		s.add(fact{lits: s.weaken(core)})
+		free := slices.IndexFunc(core, func(l int) bool { return !s.must[place(l)] })
+		if free < 0 {
 			return
 		}
-		lits = slices.DeleteFunc(slices.Clone(lits), func(l int) bool { return l == -clause[0] })
+		lits = slices.DeleteFunc(slices.Clone(lits), func(l int) bool { return l == core[free] })
 		found, known := s.numbers(lits)
 		if found.Kind != api.Unsat {
 			return
@@ -70,6 +75,47 @@ func (s *search) shrink(lits []int, steps []api.Step) []int {
 		}
 	}
 	return core
+}
+
+// weaken puts, in place of literals that aren't forced, ones that follow from them, with which the others still can't be
+// so: what is learned then says more. That they follow is learned too.
+func (s *search) weaken(core []int) []int {
+	for i, l := range core {
+		if s.must[place(l)] {
+			continue
+		}
+		for _, w := range s.weaker(l) {
+			other := slices.Clone(core)
+			other[i] = w
+			if found, _ := s.numbers(other); found.Kind == api.Unsat {
+				s.add(fact{lits: []int{l, -w}})
+				core = other
+				break
+			}
+		}
+	}
+	return core
+}
+
+// weaker are literals of atoms of the same terms that follow from one, the weakest first, a few of them.
+func (s *search) weaker(l int) []int {
+	a := s.atoms[max(l, -l)-1]
+	var others []int
+	for i, o := range s.atoms {
+		below := o.C < a.C
+		if o.C != a.C && below == (l > 0) && slices.Equal(o.T, a.T) {
+			others = append(others, i+1)
+		}
+	}
+	slices.SortFunc(others, func(x, y int) int { return cmp.Compare(s.atoms[x-1].C, s.atoms[y-1].C) })
+	if l < 0 {
+		slices.Reverse(others)
+	}
+	others = others[:min(len(others), maxWeaker)]
+	for i := range others {
+		others[i] *= l / max(l, -l)
+	}
+	return others
 }
 
 // refuted is a certificate, by the steps that layer 8 found, of the facts that these need.
