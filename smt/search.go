@@ -10,11 +10,14 @@ import (
 	"trammel/sat"
 )
 
-// How much is spent on one choice of atoms, and on one question about numbers.
+// How much fuel a choice of atoms has, and a question about numbers.
 const (
 	choiceFuel = 20000
 	numberFuel = 30000
 )
+
+// maxGaves is how often layer 5 may give up: it is then that it has done most.
+const maxGaves = 30
 
 // fact is that not all of some literals can be so. Its lemma is made once it is known that a proof needs it. A blind one
 // is no fact: nothing was found about its literals, and a proof that needs it is none.
@@ -37,6 +40,7 @@ type search struct {
 	base    []int  // values by which what is forced is so, if such were found
 	width   int    // how many values there are
 	stuck   bool   // nothing is left to choose
+	gaves   int    // how often layer 5 gave up
 }
 
 // place is a literal's own place in a list.
@@ -87,8 +91,12 @@ func (s *search) premises(lits []int) ([]api.Lin, []int) {
 // numbers asks layer 5 whether numbers can be as literals say. Too many of them are more than it answers.
 func (s *search) numbers(lits []int) (api.Found, []int) {
 	p, known := s.premises(lits)
+	if s.gaves >= maxGaves {
+		return api.Found{}, known
+	}
 	found, err := elim.Solve(p, numberFuel)
-	if err != nil {
+	if err != nil || found.Kind == api.Gave {
+		s.gaves++
 		return api.Found{}, known
 	}
 	return found, known
@@ -107,7 +115,7 @@ func (s *search) search(fuel int) api.Answer {
 			s.add(fact{lits: append([]int{-l}, s.forced...)})
 		}
 	}
-	for ; fuel > 0 && !s.stuck; fuel-- {
+	for ; fuel > 0 && !s.stuck && s.gaves < maxGaves; fuel-- {
 		c, err := sat.Solve(s.n, s.clauses, choiceFuel)
 		if err != nil || c.Kind == api.Gave {
 			return api.Answer{}
