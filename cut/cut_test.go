@@ -126,6 +126,10 @@ func TestLinesErrors(t *testing.T) { // P4.1, R1, R3
 		{forms(form(0, 2, 1, 3, c)), steps(step(2, 0, m, 0, 1)), 0, api.ErrFar}, // far ahead of the division
 		{one, steps(step(2, 1, 1)), 0, api.ErrDiv}, {forms(form(0, 0, 2, 1, 4, 5, 3)), steps(ok, step(2, 0, 1)), 1, api.ErrDiv}, {forms(form(0, 0, -3)), steps(step(2, 0, 1)), 0, api.ErrDiv},
 		{forms(form(0, 0, 3, 1, c)), steps(step(2, 0, 3)), 0, api.ErrDiv}, // the division ahead of what it tells
+		{forms(form(c), form(1)), steps(step(m, 0, m, 1, 1)), 0, api.ErrFar}, {forms(form(-c), form(-1)), steps(step(m, 0, m, 1, 1)), 0, api.ErrFar},
+		{forms(form(0, 2, c), form(0, 2, 1)), steps(step(2, 0, m, 1, 1)), 0, api.ErrFar}, {forms(form(0, 2, -c), form(0, 2, -1)), steps(step(2, 0, m, 1, 1)), 0, api.ErrFar},
+		{forms(form(c), form(1)), steps(step(1, 0, 1, 1, 1)), 0, api.ErrFar}, {forms(form(-c), form(-1)), steps(step(1, 0, 1, 1, 1)), 0, api.ErrFar},
+		{forms(form(0, 7, c), form(0, 7, 1)), steps(step(1, 0, 1, 1, 1)), 0, api.ErrFar}, {forms(form(0, 7, -c), form(0, 7, -1)), steps(step(1, 0, 1, 1, 1)), 0, api.ErrFar},
 		{forms(form(c)), steps(step(1, 0, 2)), 0, api.ErrFar}, {forms(form(-c)), steps(step(1, 0, 2)), 0, api.ErrFar},
 		{forms(form(0, 7, c)), steps(step(1, 0, 2)), 0, api.ErrFar}, {forms(form(0, 7, -c)), steps(step(1, 0, 2)), 0, api.ErrFar}, {forms(form(c, 7, c)), steps(step(2, 0, 3)), 0, api.ErrFar},
 		{forms(wide(0, 64, 1), form(0, 64, 1)), steps(ok, step(1, 0, 1, 1, 1)), 1, api.ErrLong},
@@ -141,6 +145,19 @@ func TestLinesErrors(t *testing.T) { // P4.1, R1, R3
 		if err := cut.Refutes(x.p, x.s); !errors.Is(err, x.err) || at(err) != x.at {
 			t.Error(i, err)
 		}
+	}
+}
+
+func TestMost(t *testing.T) { // P4.1: as many as may be
+	many := make([]api.Step, 4096)
+	for i := range many {
+		many[i] = step(1, 4095+i, 1)
+	}
+	if l, err := cut.Lines(make([]api.Lin, 4096), many); err != nil || len(l) != 8192 {
+		t.Error(len(l), err)
+	}
+	if err := cut.Refutes(append(make([]api.Lin, 4095), form(1)), many); err != nil {
+		t.Error(err)
 	}
 }
 
