@@ -55,6 +55,9 @@ func TestMake(t *testing.T) { // P9.1
 			c(-4), c(-5, 1), c(-5, 4), c(5, -1, -4), // 4: no; 5: the FAnd
 			c(6, -2), c(6, -1), c(6, -3), c(-6, 2, 1, 3), c(7), // 6: the FOr; 7: yes
 			c(8, -5), c(8, -6), c(8, -7), c(8, 1), c(-8, 5, 6, 7, -1), c(8))},
+		{node(api.FAnd, le(0, 1, 11, 12, 1), le(0, 11, 1, 12, 1)), 3, []api.Form{le(0, 1, 11, 12, 1), le(0, 11, 1, 12, 1)}, cl(c(-3, 1), c(-3, 2), c(3, -1, -2), c(3))},
+		{node(api.FAnd, le(1, 23, 1), le(12, 3, 1)), 3, []api.Form{le(1, 23, 1), le(12, 3, 1)}, cl(c(-3, 1), c(-3, 2), c(3, -1, -2), c(3))},
+		{node(api.FAnd, le(0, 1, 1, 23, 1), le(0, 1, 12, 3, 1)), 3, []api.Form{le(0, 1, 1, 23, 1), le(0, 1, 12, 3, 1)}, cl(c(-3, 1), c(-3, 2), c(3, -1, -2), c(3))},
 		{node(api.FAnd, node(api.FAnd, a), node(api.FAnd, a)), 4, []api.Form{a}, cl(c(-2, 1), c(2, -1), c(-3, 1), c(3, -1), c(-4, 2), c(-4, 3), c(4, -2, -3), c(4))}, // each has its own variable
 	} {
 		m, err := cnf.Make(x.f)

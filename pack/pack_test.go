@@ -91,7 +91,7 @@ func TestLength(t *testing.T) { // P12.1, P12.2, R1
 	if w, err := pack.Read(b); err != nil || len(w.Records[0].Name) != fits {
 		t.Error(err)
 	}
-	for i, w := range []api.Witness{name(fits + 1), name(2 * fits), one(record("", make([]api.Reply, api.MaxBytes)...)), one(make([]api.Record, 3<<20)...)} {
+	for i, w := range []api.Witness{name(fits + 1), name(fits + 2), name(fits + 3), name(2 * fits), one(record("", make([]api.Reply, api.MaxBytes)...)), one(make([]api.Record, 3<<20)...)} {
 		if b, err := pack.Write(w); err != error(api.ErrLong) || len(b) != 0 {
 			t.Error(i, len(b), err)
 		}
