@@ -50,7 +50,7 @@ func TestText(t *testing.T) { // P15.2
 		{api.Program{}, ""}, {prog(), "proc p ( ; ) requires emp ensures emp { }"},
 		{api.Program{Procs: []api.Proc{{Name: "p", Params: []string{"x"}, Body: []api.Stmt{{Kind: api.SSet, Name: "x", E: sub(mul(2, v("x")), num(1))}}}}}, "proc p ( x ; ) requires emp ensures emp { x := 2 * x - 1 ; }"},
 		{api.Program{Procs: []api.Proc{{Name: "p", Params: []string{"a", "b"}, Ghosts: []string{"u", "v", "w"}}, {Name: "p"}}}, "proc p ( a , b ; u , v , w ) requires emp ensures emp { } proc p ( ; ) requires emp ensures emp { }"},
-		{set(num(-7)), head + "x := - 7 ; }"}, {set(num(0)), head + "x := 0 ; }"}, {set(num(-1 << 30)), head + "x := - 1073741824 ; }"},
+		{set(num(-7)), head + "x := - 7 ; }"}, {set(num(0)), head + "x := 0 ; }"}, {set(num(-1 << 30)), head + "x := - 1073741824 ; }"}, {set(mul(1<<30, num(1<<30))), head + "x := 1073741824 * 1073741824 ; }"},
 		{set(add(add(num(1), num(2)), num(3))), head + "x := 1 + 2 + 3 ; }"}, {set(add(num(1), add(num(2), num(3)))), head + "x := 1 + ( 2 + 3 ) ; }"}, {set(sub(num(1), sub(num(2), num(-3)))), head + "x := 1 - ( 2 - - 3 ) ; }"},
 		{set(mul(-2, mul(3, add(v("y"), num(1))))), head + "x := - 2 * 3 * ( y + 1 ) ; }"}, {set(mul(2, sub(v("y"), mul(0, num(-1))))), head + "x := 2 * ( y - 0 * - 1 ) ; }"}, {set(add(mul(2, v("x")), mul(3, v("y")))), head + "x := 2 * x + 3 * y ; }"},
 		{assert(con(api.COr, con(api.COr, a, b), c)), head + "assert a == 1 || true || false ; }"}, {assert(con(api.COr, a, con(api.COr, b, c))), head + "assert a == 1 || [ true || false ] ; }"},
