@@ -152,6 +152,7 @@ func TestStatements(t *testing.T) { // P21.1
 	rules(t, in("put x.g:=1;"), "n", true, api.FailMissing, "1-u0<=0 |- f")
 	rules(t, in("free x.g;"), "y", true, 0, "1-u0<=0 |- f")
 	rules(t, "proc p(;) requires emp ensures emp {x:=new(f,g,f);y:=new(g);assert x!=y;}", "nn", true, api.FailAssert, "1-u0<=0 1-u0<=0 1-u1<=0 !u0-u1=0 |- !u0-u1=0")
+	rules(t, "proc p(;) requires emp ensures emp {x:=new(f,f,g,f);y:=get x.g;free x.f;}", "yyy", true, 0, "1-u0<=0 1-u0<=0 |- 0=0\n1-u0<=0 1-u0<=0 |- 0=0\n1-u0<=0 1-u0<=0 |- f")
 	rules(t, "proc p(;) requires emp ensures emp {x:=new(f);}", "n", true, api.FailLeak, "1-u0<=0 |- f")
 	rules(t, "proc p(;) requires emp ensures emp {x:=new(f);}", "y", true, 0, "1-u0<=0 |- f")
 	rules(t, "proc p(;) requires emp ensures pts(res.f,64,0) {res:=new(f,g);free res.g;}", "yyy", true, 0, "1-u0<=0 1-u0<=0 |- 0=0\n1-u0<=0 1-u0<=0 |- 0=0\n1-u0<=0 1-u0<=0 |- 0=0")

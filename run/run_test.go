@@ -156,7 +156,7 @@ func TestErrors(t *testing.T) { // P19.1, R1, R3
 }
 
 func TestMemory(t *testing.T) { // P19.2, R2
-	src := in("put 3.f:=1;free 4.f;z:=new(f);while res<3 invariant emp{res:=res+1;}")
+	src := in("put 3.f:=1;free 4.f;z:=new(g,f,g);while res<3 invariant emp{res:=res+1;}")
 	made := func() []api.Cell { return append(make([]api.Cell, 0, 9), c(3, "f", 7), c(4, "f", 8), c(5, "f", 9)) }
 	p, l, args := prog(t, src), made(), []int{1, 2}
 	a, _ := run.Run(p, "p", args, l, 100)
