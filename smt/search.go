@@ -12,8 +12,8 @@ import (
 
 // How much fuel a choice of atoms has, and a question about numbers.
 const (
-	choiceFuel = 20000
-	numberFuel = 30000
+	choiceFuel = 100000
+	numberFuel = 100000
 )
 
 // maxGaves is how often layer 5 may give up: it is then that it has done most.
