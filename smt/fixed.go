@@ -163,7 +163,7 @@ func plus(a, b api.Lin, k int) api.Lin {
 // near tells whether all numbers of a form are near enough to go on with.
 func near(l api.Lin) bool {
 	within := func(n int) bool { return -far <= n && n <= far }
-	return within(l.C) && !slices.ContainsFunc(l.T, func(m api.Mono) bool { return !within(m.K) || m.K == 0 })
+	return within(l.C) && !slices.ContainsFunc(l.T, func(m api.Mono) bool { return !within(m.K) })
 }
 
 // divided divides coefficients by g, which divides them, and rounds the constant up.

@@ -181,6 +181,36 @@ func TestFamilies(t *testing.T) { // T4: the examples, whatever their numbers
 	}
 }
 
+// row writes n texts, in which # is the number of each, and @ that of the next one, the first one's behind the last.
+func row(n int, between, s string) string {
+	var l []string
+	for i := range n {
+		l = append(l, strings.NewReplacer("#", strconv.Itoa(i), "@", strconv.Itoa((i+1)%n)).Replace(s))
+	}
+	return strings.Join(l, between)
+}
+
+func TestFamiliesOfCells(t *testing.T) { // T4
+	for n := 1; n < 5; n++ {
+		head := "proc p(" + row(n, ",", "a#") + ";" + row(n, ",", "u#") + ") requires "
+		for src, want := range map[string]int{
+			head + row(n, "&", "pts(a#.f,64,u#)") + " ensures " + row(n, "&", "pts(a#.f,64,u@)") + "{" + row(n, "", "x#:=get a#.f;") + row(n, "", "put a#.f:=x@;") + "}":         api.Verified,
+			head + row(n, "&", "pts(a#.f,64,u#)") + " ensures " + row(n, "&", "pts(a#.f,64,u@+1)") + "{" + row(n, "", "x#:=get a#.f;") + row(n, "", "put a#.f:=x@;") + "}":       api.Failed,
+			head + row(n, "&", "pts(a0.f,16,u#)") + " ensures " + row(n, "&", "pts(a0.f,16,u@)") + "{}":                                                                          api.Verified,
+			"proc p(;) requires emp ensures emp {" + row(n, "", "x#:=new(f,g);put x#.f:=#;") + row(n, "", "y:=get x#.f;assert y==#;") + row(n, "", "free x#.g;free x#.f;") + "}": api.Verified,
+			"proc p(;) requires emp ensures emp {" + row(n, "", "x#:=new(f);") + row(n, "", "free x0.f;") + "free x0.f;}":                                                        api.Failed,
+			"proc p(n;) requires [0<=n] ensures " + row(n, "&", "[y#==#*n]") + "{}":                                                                                              api.Malformed,
+			"proc p(n;) requires [0<=n] ensures [res==n+n] {while i<n invariant [i<=n]&[res==2*i]{i:=i+1;" + row(n, "", "res:=res+#-#;") + "res:=res+2;}}":                       api.Verified,
+			head + "emp ensures " + row(n, "&", "[a#<=res]") + "{res:=a0;" + row(n, "", "if res<a#{res:=a#;}else{}") + "}":                                                       api.Verified,
+			head + "emp ensures " + row(n, "&", "[a#<res]") + "{res:=a0;" + row(n, "", "if res<a#{res:=a#;}else{}") + "}":                                                        api.Failed,
+		} {
+			if got := check(t, src, 200); got != want {
+				t.Error(src, got)
+			}
+		}
+	}
+}
+
 // maker makes programs of one procedure that mean something, some of which do what they say.
 type maker struct{ r *rand.Rand }
 
