@@ -10,6 +10,9 @@ import (
 // maxSum is how great a step's sum may be ahead of its division.
 const maxSum = api.MaxCoef * api.MaxTimes
 
+// termsPerFuel is how many terms are looked through for one unit of fuel, when a variable is chosen.
+const termsPerFuel = 256
+
 // lossy is how many rows more are as bad as whole numbers that may get lost.
 const lossy = 64
 
@@ -73,8 +76,8 @@ func (s *search) step(parts []api.Part, div int) int {
 // eliminateAll goes on until no variable is left, a proof is there, or the fuel is spent.
 func (s *search) eliminateAll() {
 	for s.end < 0 && s.fuel > 0 && len(s.there) > 0 {
-		s.fuel -= 1 + len(s.there)/8
-		counts := s.counts()
+		counts, terms := s.counts()
+		s.fuel -= 1 + terms/termsPerFuel
 		if s.loosen(counts) {
 			// Rows have gone: how often variables stand is to be counted anew.
 		} else if v, i, ok := s.equation(counts); ok {
@@ -97,9 +100,9 @@ func (s *search) sweep() {
 	s.there = there
 }
 
-// counts tells how often each variable stands.
-func (s *search) counts() map[int]tally {
-	counts := map[int]tally{}
+// counts tells how often each variable stands, and how often all do.
+func (s *search) counts() (counts map[int]tally, terms int) {
+	counts = map[int]tally{}
 	for _, i := range s.there {
 		for _, m := range s.rows[i].l.T {
 			c := counts[m.V]
@@ -112,8 +115,9 @@ func (s *search) counts() map[int]tally {
 			}
 			counts[m.V] = c
 		}
+		terms += len(s.rows[i].l.T)
 	}
-	return counts
+	return counts, terms
 }
 
 // loosen eliminates all variables that are bounded from one side alone, with their rows; it tells whether there was one.

@@ -111,7 +111,9 @@ func (s *search) search(fuel int) api.Answer {
 	} else if s.all(s.base) {
 		return api.Answer{Kind: api.Sat, Values: s.base}
 	} else {
-		for _, l := range s.fixed() {
+		lits := s.fixed()
+		room := (api.MaxClauses - s.own) / 2 // the rest is for what is learned
+		for _, l := range lits[:min(len(lits), room)] {
 			s.add(fact{lits: append([]int{-l}, s.forced...)})
 		}
 	}
